@@ -1,0 +1,1 @@
+"""Slips that come up through calls, what takes them, and what is cleaned on the way."""
