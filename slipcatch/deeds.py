@@ -74,3 +74,20 @@ def is_deed(thing):
             return False
         waiting.extend(inner_deeds(part))
     return True
+
+
+def is_whole(thing):
+    return isinstance(thing, int) and not isinstance(thing, bool)
+
+
+# Whether equality and a dict may be trusted with it: True is equal to 1 and
+# False to 0, and of lists and dicts no dict can be asked.
+def is_plain(thing):
+    waiting = [thing]
+    while waiting:
+        part = waiting.pop()
+        if isinstance(part, tuple):
+            waiting.extend(part)
+        elif part is not None and not isinstance(part, str) and not is_whole(part):
+            return False
+    return True

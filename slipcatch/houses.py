@@ -2,7 +2,7 @@
 
 from slipcatch.deeds import inner_deeds, is_deed, is_pair, is_word
 from slipcatch.errors import NoHouse
-from slipcatch.kinds import have_kinds_shape, have_overs_ahead, kind_names
+from slipcatch.kinds import have_kinds_shape, have_overs_ahead, kind_names, overs_of
 
 MOST_MARKS = 2
 MOST_ROOMS = 5
@@ -146,3 +146,13 @@ def slips_of(house):
 
 def kind_of(house, slip):
     return deed_at(house, slip)[1]
+
+
+# The number, from 0, of the first taker of a catch that the slip fits, or
+# None where it goes by all of them.
+def first_taker(house, catch, slip):
+    overs = overs_of(house[0], kind_of(house, slip))
+    for number, taker in enumerate(catch[2:]):
+        if taker[0] in overs:
+            return number
+    return None

@@ -1,9 +1,18 @@
 """Things that several tests need: houses, and ways to make them at random."""
 
+from slipcatch.houses import deed_at, places_of, slips_of, why_no_house
+from slipcatch.texts import read_house
+
 SAY = ("say", "hi")
 EMPTY = ("row",)
 KINDS = (("any", ""), ("io", "any"), ("disk", "io"), ("net", "io"), ("odd", ""))
 MARKS = ("lit", "warm")
+
+F = ("front",)
+OFF = ()
+LIT = ("lit",)
+WARM = ("warm",)
+BOTH = ("lit", "warm")
 
 # Each sort of deed stands in it, and each number that a deed is reached by.
 FRONT = (
@@ -14,9 +23,8 @@ FRONT = (
 )
 BACK = ("row", ("slip", "disk"), EMPTY)
 HOUSE = (KINDS, MARKS, (("front", FRONT), ("back", BACK)))
-HOUSE_TEXT = (
-    "kinds any io/any disk/io net/io odd\n"
-    "marks lit warm\n"
+HEAD = "kinds any io/any disk/io net/io odd\nmarks lit warm\n"
+HOUSE_TEXT = HEAD + (
     "front: catch {on lit; call back; pick {say hi | off warm | leave}}"
     " of disk (again (when lit stop else slip net)) of any (clean pass with say bye)\n"
     "back: {slip disk; {}}"
@@ -89,3 +97,69 @@ def random_house(chance, depth=3):
     names["off"] = names["on"]
     names["call"] = rooms
     return (tuple(kinds), marks, tuple((room, random_deed(chance, names, depth)) for room in rooms))
+
+
+def at(*numbers):
+    """A place in the front room."""
+    return F + numbers
+
+
+def key(place, marks=OFF, slip=None):
+    return (place, marks, slip)
+
+
+def house_of(*rooms):
+    """A house of KINDS and MARKS from the texts of its rooms, or a tuple of these; one without a name is the front one."""
+    if isinstance(rooms[0], tuple):
+        rooms = rooms[0]
+    return read_house(HEAD + "\n".join(room if ": " in room else "front: " + room for room in rooms))
+
+
+def good_deed(chance, rooms, most, depth, stop=False, passing=False, cleaned=False):
+    """A deed of a house with no fault, of about so many deeds at most."""
+    bare = ["say", "slip", "slip", "leave", "on", "on", "off", "call"] + ["stop"] * 2 * stop + ["pass"] * 3 * passing
+    holding = ["row", "row", "pick", "again", "when", "catch", "catch"] + ["clean"] * (not cleaned)
+    sort = chance.choice(bare if depth == 0 or most < 3 else bare + holding * 3)
+    words = {"say": "ab", "slip": [kind[0] for kind in KINDS], "on": MARKS, "off": MARKS, "when": MARKS, "call": rooms}
+    head = (sort, chance.choice(words[sort])) if sort in words else (sort,)
+    counts = {"row": (0, 4), "pick": (2, 3), "again": (1, 1), "when": (2, 2), "clean": (2, 2), "catch": (2, 4)}
+    many = chance.randint(*counts.get(sort, (0, 0)))
+
+    def inner(number):
+        return good_deed(
+            chance, rooms, (most - 1) // many, depth - 1, stop or sort == "again",
+            passing or sort == "catch" and number > 0, cleaned or sort == "clean" and number == 1)
+
+    deeds = [inner(number) for number in range(many)]
+    if sort == "catch":
+        return ("catch", deeds[0]) + tuple((chance.choice(words["slip"]), deed) for deed in deeds[1:])
+    return head + tuple(deeds)
+
+
+def good_house(chance, most=16):
+    """One of KINDS and MARKS with no fault, of about so many deeds at most."""
+    while True:
+        rooms = ["front", "back", "side"][:chance.randint(1, 3)]
+        house = (KINDS, MARKS, tuple((room, good_deed(chance, rooms, most // len(rooms), 5)) for room in rooms))
+        if why_no_house(house) is None:
+            return house
+
+
+def passes(deed):
+    """Whether a pass stands in it that has the slip in hand of this deed."""
+    if deed[0] == "pass":
+        return True
+    inner = deed[1:2] if deed[0] == "catch" else [part for part in deed[1:] if isinstance(part, tuple)]
+    return any(passes(part) for part in inner)
+
+
+def greatest(house):
+    """A closed table that has all ways at each key by which no pass could be begun without a slip in hand."""
+    slips = slips_of(house)
+    table = {}
+    for place in places_of(house):
+        hands = slips + ([] if passes(deed_at(house, place)) else [None])
+        for marks in (OFF, LIT, WARM, BOTH):
+            for slip in hands:
+                table[(place, marks, slip)] = [(end, then) for end in ["done", "leave", "stop"] + slips for then in (OFF, LIT, WARM, BOTH)]
+    return table

@@ -6,9 +6,8 @@ import unittest
 from slipcatch.errors import NoHouse, NoText
 from slipcatch.houses import why_no_house
 from slipcatch.texts import read_house, show_house
-from tests.samples import EMPTY, HOUSE, HOUSE_TEXT, KINDS, MARKS, SAY, nested, one_room, random_house
+from tests.samples import EMPTY, HEAD, HOUSE, HOUSE_TEXT, KINDS, MARKS, SAY, nested, one_room, random_house
 
-HEAD = "kinds any io/any disk/io net/io odd\nmarks lit warm\n"
 AGAIN = ("again", SAY)
 WHEN = ("when", "lit", SAY, SAY)
 CLEAN = ("clean", SAY, SAY)
