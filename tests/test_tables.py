@@ -5,6 +5,7 @@ import unittest
 
 from slipcatch.houses import deed_at, places_of, slips_of
 from slipcatch.tables import is_closed, table_of
+from slipcatch.texts import read_house
 from tests.reference import Seen, Watched
 from tests.samples import BOTH, F, HOUSE, LIT, OFF, WARM, at, good_house, house_of, key
 
@@ -214,6 +215,25 @@ class SortsTest(TableTest):
             key(at(1, 0, 1), OFF, younger): [("done", OFF)],
             key(at(1, 1), OFF, slip): [(slip, OFF)],
         })
+
+
+class MarksTest(unittest.TestCase):
+    def test_no_marks(self):
+        house = read_house("kinds a\nmarks\nfront: catch slip a of a pass")
+        slip = at(0)
+        expected = {key(F): [(slip, OFF)], key(slip): [(slip, OFF)], key(at(1), OFF, slip): [(slip, OFF)]}
+        self.assertEqual(table_of(house), expected)
+        self.assertTrue(is_closed(house, expected))
+        self.assertFalse(is_closed(house, expected | {key(slip, LIT): [(slip, LIT)]}))
+
+    def test_in_the_order_of_the_house_not_of_their_letters(self):
+        house = read_house("kinds a\nmarks warm lit\nfront: {on lit; on warm}")
+        both = ("warm", "lit")
+        expected = {key(F): [("done", both)], key(at(0)): [("done", LIT)], key(at(1), LIT): [("done", both)]}
+        self.assertEqual(table_of(house), expected)
+        self.assertTrue(is_closed(house, expected))
+        self.assertFalse(is_closed(house, expected | {key(F): [("done", both), ("done", BOTH)]}))
+        self.assertFalse(is_closed(house, expected | {key(at(0), BOTH): [("done", BOTH)]}))
 
 
 class CallsTest(TableTest):
