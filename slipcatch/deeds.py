@@ -64,6 +64,15 @@ def inner_deeds(deed):
     return list(deed[1 + words:])
 
 
+# The same deed, but with these within it in the place of its own.
+def with_inner(deed, inner):
+    if deed[0] == "catch":
+        takers = [(taker[0], new) for taker, new in zip(deed[2:], inner[1:])]
+        return ("catch", inner[0]) + tuple(takers)
+    words = FORMS[deed[0]][0]
+    return deed[:1 + words] + tuple(inner)
+
+
 # A list of what is still to be looked at, for things may lie too deep
 # within one another to go in by calls.
 def is_deed(thing):

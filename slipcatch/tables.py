@@ -1,198 +1,222 @@
-"""Tables: by which ways each deed may end, in whatever state it is begun."""
+"""Tables: by which ways each deed may end, in whatever state it is begun.
+
+A key is (place, scene, slip in hand), a way (end, scene). The scene is a
+tuple of the marks that are on or, where a watcher looks on, a tuple of these
+and the watcher's state.
+"""
 
 from slipcatch.deeds import is_plain
 from slipcatch.houses import are_unlike, deed_at, first_taker, places_of, slips_of
 from slipcatch.runs import is_slip, marks_behind, simple_end
 
 
-def front_key(house):
-    return ((house[2][0][0],), (), None)
-
-
-# A look at one key: the keys and ways that are found to be due there by a table.
-class Look:
-    def __init__(self, house, table, key):
+# A house as it is looked at, with the watcher that looks on, or None.
+class View:
+    def __init__(self, house, watcher):
         self.house = house
-        self.table = table
-        self.place = key[0]
-        self.marks = key[1]
-        self.slip = key[2]
-        self.deed = deed_at(house, key[0])
-        self.due_keys = {}
-        self.due_ways = {}
-
-    def need_way(self, end, marks):
-        self.due_ways[(end, marks)] = True
-
-    def ways_at(self, key):
-        self.due_keys[key] = True
-        return self.table.get(key, [])
-
-    def ways_within(self, number, marks, slip):
-        return self.ways_at((self.place + (number,), marks, slip))
-
-    def need_ways_within(self, number, marks, slip):
-        for end, marks_then in self.ways_within(number, marks, slip):
-            self.need_way(end, marks_then)
+        self.watcher = watcher
+        # Each place's deed is asked for very often.
+        self.deeds = {}
+        for place in places_of(house):
+            self.deeds[place] = deed_at(house, place)
 
 
-def look_at_simple(look):
-    end = simple_end(look.place, look.deed, look.slip)
-    look.need_way(end, marks_behind(look.house, look.deed, look.marks))
+def front_key(view):
+    place = (view.house[2][0][0],)
+    if view.watcher is None:
+        return (place, (), None)
+    return (place, ((), view.watcher[0][0]), None)
 
 
-def look_at_row(look):
-    reached = {look.marks: True}
-    for number in range(len(look.deed) - 1):
-        behind = {}
-        for marks in reached:
-            for end, marks_then in look.ways_within(number, marks, look.slip):
-                if end == "done":
-                    behind[marks_then] = True
-                else:
-                    look.need_way(end, marks_then)
-        reached = behind
-    for marks in reached:
-        look.need_way("done", marks)
+def marks_in(view, scene):
+    if view.watcher is None:
+        return scene
+    return scene[0]
 
 
-def look_at_pick(look):
-    for number in range(len(look.deed) - 1):
-        look.need_ways_within(number, look.marks, look.slip)
+def state_behind(watcher, word, state):
+    return watcher[1].get((state, word), state)
 
 
-def look_at_again(look):
-    reached = {look.marks: True}
-    waiting = [look.marks]
-    while waiting:
-        marks = waiting.pop()
-        look.need_way("done", marks)
-        for end, marks_then in look.ways_within(0, marks, look.slip):
-            if end == "done" and marks_then not in reached:
-                reached[marks_then] = True
-                waiting.append(marks_then)
-            look.need_way("done" if end == "stop" else end, marks_then)
+def scene_behind(view, deed, scene):
+    marks = marks_behind(view.house, deed, marks_in(view, scene))
+    if view.watcher is None:
+        return marks
+    if deed[0] == "say":
+        return (marks, state_behind(view.watcher, deed[1], scene[1]))
+    return (marks, scene[1])
 
 
-def look_at_when(look):
-    look.need_ways_within(0 if look.deed[1] in look.marks else 1, look.marks, look.slip)
+# A step is how a deed goes on: a tuple (choices, stand, way) of the choices
+# by which it does and either the stand that it comes to or the way that it
+# ends by. A stand is (key, inner, held): the deed that was begun by this key
+# is where one within it, or the room that it calls, is to be begun by the key
+# inner; held is how the 0 of a clean ended.
+def step_to(key, number, scene, slip):
+    return ((), (key, (key[0] + (number,), scene, slip), None), None)
 
 
-def look_at_call(look):
-    for end, marks in look.ways_at(((look.deed[1],), look.marks, None)):
-        look.need_way("done" if end == "leave" else end, marks)
+def step_out(end, scene):
+    return ((), None, (end, scene))
 
 
-def look_at_clean(look):
-    for held, marks in look.ways_within(0, look.marks, look.slip):
-        for end, marks_then in look.ways_within(1, marks, look.slip):
-            look.need_way(held if end == "done" else end, marks_then)
+def by_choice(choice, step):
+    return ((choice,), step[1], step[2])
 
 
-def look_at_catch(look):
-    for end, marks in look.ways_within(0, look.marks, look.slip):
-        number = first_taker(look.house, look.deed, end) if is_slip(end) else None
-        if number is None:
-            look.need_way(end, marks)
-        else:
-            look.need_ways_within(1 + number, marks, end)
+def row_steps(key, deed, number, scene):
+    if number == len(deed) - 1:
+        return [step_out("done", scene)]
+    return [step_to(key, number, scene, key[2])]
 
 
-def look_by_sort(look):
-    sort = look.deed[0]
+def again_steps(key, scene):
+    return [by_choice(0, step_out("done", scene)), by_choice(1, step_to(key, 0, scene, key[2]))]
+
+
+def first_steps(view, key):
+    deed = view.deeds[key[0]]
+    scene = key[1]
+    slip = key[2]
+    sort = deed[0]
     if sort == "row":
-        look_at_row(look)
-    elif sort == "pick":
-        look_at_pick(look)
-    elif sort == "again":
-        look_at_again(look)
-    elif sort == "when":
-        look_at_when(look)
-    elif sort == "call":
-        look_at_call(look)
-    elif sort == "clean":
-        look_at_clean(look)
-    elif sort == "catch":
-        look_at_catch(look)
-    else:
-        look_at_simple(look)
+        return row_steps(key, deed, 0, scene)
+    if sort == "pick":
+        return [by_choice(number, step_to(key, number, scene, slip)) for number in range(len(deed) - 1)]
+    if sort == "again":
+        return again_steps(key, scene)
+    if sort == "when":
+        return [step_to(key, 0 if deed[1] in marks_in(view, scene) else 1, scene, slip)]
+    if sort == "call":
+        return [((), (key, ((deed[1],), scene, None), None), None)]
+    if sort in ("clean", "catch"):
+        return [step_to(key, 0, scene, slip)]
+    return [step_out(simple_end(key[0], deed, slip), scene_behind(view, deed, scene))]
 
 
-def look_at(house, table, key):
-    look = Look(house, table, key)
-    look_by_sort(look)
-    return look
+def clean_steps(stand, number, way):
+    key = stand[0]
+    if number == 0:
+        inner = (key[0] + (1,), way[1], key[2])
+        return [((), (key, inner, way[0]), None)]
+    return [step_out(stand[2] if way[0] == "done" else way[0], way[1])]
 
 
-# A table that grows from the front key on by what is due, and by nothing else.
+def catch_steps(view, key, number, way):
+    taker = None
+    if number == 0 and is_slip(way[0]):
+        taker = first_taker(view.house, view.deeds[key[0]], way[0])
+    if taker is None:
+        return [((), None, way)]
+    return [step_to(key, 1 + taker, way[1], way[0])]
+
+
+# How the deed of a stand goes on where the one that was to be begun there
+# ends by this way.
+def next_steps(view, stand, way):
+    key = stand[0]
+    deed = view.deeds[key[0]]
+    number = stand[1][0][-1]
+    end = way[0]
+    if deed[0] == "row" and end == "done":
+        return row_steps(key, deed, number + 1, way[1])
+    if deed[0] == "again" and end == "done":
+        return again_steps(key, way[1])
+    if deed[0] == "again" and end == "stop" or deed[0] == "call" and end == "leave":
+        return [step_out("done", way[1])]
+    if deed[0] == "clean":
+        return clean_steps(stand, number, way)
+    if deed[0] == "catch":
+        return catch_steps(view, key, number, way)
+    return [((), None, way)]
+
+
+# A table that grows from the front key on by what is due, and by nothing
+# else. Its ways stand in dicts as long as it grows.
 class Growth:
-    def __init__(self, house):
-        self.house = house
+    def __init__(self, view):
+        self.view = view
         self.table = {}
-        # Of each key, those at which its ways were asked for.
-        self.askers = {}
-        # Keys that are to be looked at, as a list and as a dict.
+        # Of each key, the stands at which a deed is begun by it.
+        self.stands = {}
+        # Tuples (key, step): the deed of the key is to make this step.
         self.waiting = []
-        self.waits = {}
 
-    def put_off(self, key):
-        if key not in self.waits:
-            self.waits[key] = True
-            self.waiting.append(key)
+    def need_steps(self, key, steps):
+        self.waiting.extend([(key, step) for step in steps])
 
-    def need_key(self, key, asker):
+    def need_key(self, key):
         if key not in self.table:
-            self.table[key] = []
-            self.put_off(key)
-        askers = self.askers.setdefault(key, {})
-        askers[asker] = True
+            self.table[key] = {}
+            self.stands[key] = {}
+            self.need_steps(key, first_steps(self.view, key))
 
-    def look_once(self):
-        key = self.waiting.pop()
-        self.waits.pop(key)
-        look = look_at(self.house, self.table, key)
-        for needed in look.due_keys:
-            self.need_key(needed, key)
-        ways = [way for way in look.due_ways if way not in self.table[key]]
-        if ways:
-            self.table[key].extend(ways)
-            for asker in self.askers[key]:
-                self.put_off(asker)
+    def need_stand(self, stand):
+        inner = stand[1]
+        self.need_key(inner)
+        if stand not in self.stands[inner]:
+            self.stands[inner][stand] = True
+            for way in self.table[inner]:
+                self.need_steps(stand[0], next_steps(self.view, stand, way))
+
+    def need_way(self, key, way):
+        if way not in self.table[key]:
+            self.table[key][way] = True
+            for stand in self.stands[key]:
+                self.need_steps(stand[0], next_steps(self.view, stand, way))
+
+
+def least_table(view):
+    growth = Growth(view)
+    growth.need_key(front_key(view))
+    while growth.waiting:
+        waited = growth.waiting.pop()
+        step = waited[1]
+        if step[1] is None:
+            growth.need_way(waited[0], step[2])
+        else:
+            growth.need_stand(step[1])
+    table = {}
+    for key, ways in growth.table.items():
+        table[key] = list(ways)
+    return table
 
 
 def table_of(house):
-    growth = Growth(house)
-    # Nothing asks for the front key but a run's beginning.
-    growth.need_key(front_key(house), front_key(house))
-    while growth.waiting:
-        growth.look_once()
-    return growth.table
+    return least_table(View(house, None))
 
 
-def marks_sets(house):
+def scenes_of(view):
     found = [()]
-    for mark in house[1]:
+    for mark in view.house[1]:
         found = found + [marks + (mark,) for marks in found]
-    return found
+    if view.watcher is None:
+        return found
+    scenes = []
+    for state in view.watcher[0]:
+        scenes.extend([(marks, state) for marks in found])
+    return scenes
 
 
 # All that a table may have as keys; a pass is begun with a slip in hand alone.
-def all_keys(house):
-    slips = slips_of(house)
+def all_keys(view):
+    slips = slips_of(view.house)
+    scenes = scenes_of(view)
     keys = {}
-    for place in places_of(house):
-        hands = slips if deed_at(house, place)[0] == "pass" else [None] + slips
-        for marks in marks_sets(house):
+    for place, deed in view.deeds.items():
+        hands = slips if deed[0] == "pass" else [None] + slips
+        for scene in scenes:
             for slip in hands:
-                keys[(place, marks, slip)] = True
+                keys[(place, scene, slip)] = True
     return keys
 
 
-def all_ways(house):
+def all_ways(view):
+    scenes = scenes_of(view)
     ways = {}
-    for end in ["done", "leave", "stop"] + slips_of(house):
-        for marks in marks_sets(house):
-            ways[(end, marks)] = True
+    for end in ["done", "leave", "stop"] + slips_of(view.house):
+        for scene in scenes:
+            ways[(end, scene)] = True
     return ways
 
 
@@ -204,63 +228,82 @@ def is_way_list(thing, ways):
     return isinstance(thing, list) and are_of(thing, ways) and are_unlike(thing)
 
 
-def is_table(house, thing):
-    if not isinstance(thing, dict) or not are_of(thing, all_keys(house)):
+def is_table(view, thing):
+    if not isinstance(thing, dict) or not are_of(thing, all_keys(view)):
         return False
-    ways = all_ways(house)
+    ways = all_ways(view)
     return all([is_way_list(listed, ways) for listed in thing.values()])
 
 
-def has_all_due(house, table, key):
-    look = look_at(house, table, key)
-    if not all([needed in table for needed in look.due_keys]):
+def has_all_due(view, table, key):
+    known = {}
+    waiting = first_steps(view, key)
+    while waiting:
+        step = waiting.pop()
+        stand = step[1]
+        if stand is None:
+            if step[2] not in table[key]:
+                return False
+        elif stand not in known:
+            known[stand] = True
+            if stand[1] not in table:
+                return False
+            for way in table[stand[1]]:
+                waiting.extend(next_steps(view, stand, way))
+    return True
+
+
+def is_closed_in(view, table):
+    if not is_table(view, table) or front_key(view) not in table:
         return False
-    return all([way in table[key] for way in look.due_ways])
+    return all([has_all_due(view, table, key) for key in table])
 
 
 def is_closed(house, table):
-    if not is_table(house, table) or front_key(house) not in table:
-        return False
-    return all([has_all_due(house, table, key) for key in table])
+    return is_closed_in(View(house, None), table)
 
 
-def ends_at(table, key):
-    return [end for end, marks in table.get(key, [])]
+def parts_at(table, key, slip):
+    return [(key, way) for way in table.get(key, []) if way[0] == slip]
 
 
-def lets_kept_or_lost(table, key, meet):
-    for held, marks in table.get((key[0] + (0,), key[1], key[2]), []):
-        if held == meet[2]:
-            ends = ends_at(table, (key[0] + (1,), marks, key[2]))
-            if any([(end == "done") == (meet[0] == "kept") for end in ends]):
-                return True
-    return False
+def parts_of_clean(table, key, meet):
+    found = []
+    for held in parts_at(table, (key[0] + (0,), key[1], key[2]), meet[2]):
+        inner = (key[0] + (1,), held[1][1], key[2])
+        for way in table.get(inner, []):
+            if (way[0] == "done") == (meet[0] == "kept"):
+                found.append([held, (inner, way)])
+    return found
 
 
-def lets_take_or_by(house, table, key, meet):
+def parts_of_catch(view, table, key, meet):
     slip = meet[-1]
     taker = meet[2] if meet[0] == "take" else None
-    if first_taker(house, deed_at(house, key[0]), slip) != taker:
-        return False
-    return slip in ends_at(table, (key[0] + (0,), key[1], key[2]))
+    if first_taker(view.house, view.deeds[key[0]], slip) != taker:
+        return []
+    return [[part] for part in parts_at(table, (key[0] + (0,), key[1], key[2]), slip)]
 
 
-def lets_at(house, table, key, meet):
+# The meet happens at this key behind deeds that were begun within, or of a
+# called room, and ended: told are all lists of these, as tuples (key, way).
+def parts_of_meet(view, table, key, meet):
     word = meet[0]
-    if word == "slip":
-        return True
-    if word == "pass":
-        return key[2] == meet[2]
+    if word == "slip" or word == "pass" and key[2] == meet[2]:
+        return [[]]
     if word == "out":
-        room = deed_at(house, key[0])[1]
-        return meet[2] in ends_at(table, ((room,), key[1], None))
+        room = view.deeds[key[0]][1]
+        return [[part] for part in parts_at(table, ((room,), key[1], None), meet[2])]
     if word in ("take", "by"):
-        return lets_take_or_by(house, table, key, meet)
-    return lets_kept_or_lost(table, key, meet)
+        return parts_of_catch(view, table, key, meet)
+    if word in ("kept", "lost"):
+        return parts_of_clean(table, key, meet)
+    return []
 
 
 def lets(house, table, meet):
+    view = View(house, None)
     if meet[0] == "end":
-        return meet[1] in ends_at(table, front_key(house))
+        return len(parts_at(table, front_key(view), meet[1])) > 0
     keys = [key for key in table if key[0] == meet[1]]
-    return any([lets_at(house, table, key, meet) for key in keys])
+    return any([len(parts_of_meet(view, table, key, meet)) > 0 for key in keys])

@@ -1,6 +1,7 @@
 """Things that several tests need: houses, and ways to make them at random."""
 
 from slipcatch.houses import deed_at, places_of, slips_of, why_no_house
+from slipcatch.tables import table_of
 from slipcatch.texts import read_house
 
 SAY = ("say", "hi")
@@ -163,3 +164,30 @@ def greatest(house):
             for slip in hands:
                 table[(place, marks, slip)] = [(end, then) for end in ["done", "leave", "stop"] + slips for then in (OFF, LIT, WARM, BOTH)]
     return table
+
+
+def lively_house(chance, most=16):
+    """Of some such houses the one in which the most happens."""
+    return max((good_house(chance, most) for step in range(12)), key=lambda house: len(table_of(house)))
+
+
+def calls(room, many):
+    return ("row",) + (("call", room),) * many
+
+
+def far_house(more):
+    """Its one slip comes behind some thousands of deeds and this many more; no choice is asked for."""
+    pad = EMPTY if more == 0 else row_of([EMPTY] * more)
+    front = ("row", calls("aa", 4), calls("aa", 3), pad, ("slip", "io"))
+    below = [("aa", calls("bb", 4)), ("bb", calls("cc", 4)), ("cc", calls("dd", 4)), ("dd", row_of([SAY] * 4))]
+    return (KINDS, (), (("front", front),) + tuple(below))
+
+
+def very_far_house():
+    """One room is called sixteen times by each of three states of it, and puts the state back."""
+    many = ("row",) + (calls("step", 4),) * 4
+    warmer = ("row", ("on", "warm"), ("call", "many"), ("off", "warm"))
+    lit = ("row", ("row", ("on", "lit"), ("off", "warm")), ("call", "many"), ("off", "lit"), ("on", "warm"))
+    step = ("when", "lit", ("when", "warm", ("call", "deep"), warmer), ("when", "warm", lit, warmer))
+    front = ("row", ("call", "step"), ("slip", "io"))
+    return (KINDS, MARKS, (("front", front), ("step", step), ("many", many), ("deep", row_of([SAY] * 2))))
