@@ -235,20 +235,28 @@ def is_table(view, thing):
     return all([is_way_list(listed, ways) for listed in thing.values()])
 
 
-def has_all_due(view, table, key):
+# The same table with its ways in dicts, in which they are found at once.
+def with_known_ways(table):
     known = {}
+    for key, ways in table.items():
+        known[key] = dict([(way, True) for way in ways])
+    return known
+
+
+def has_all_due(view, known, key):
+    seen = {}
     waiting = first_steps(view, key)
     while waiting:
         step = waiting.pop()
         stand = step[1]
         if stand is None:
-            if step[2] not in table[key]:
+            if step[2] not in known[key]:
                 return False
-        elif stand not in known:
-            known[stand] = True
-            if stand[1] not in table:
+        elif stand not in seen:
+            seen[stand] = True
+            if stand[1] not in known:
                 return False
-            for way in table[stand[1]]:
+            for way in known[stand[1]]:
                 waiting.extend(next_steps(view, stand, way))
     return True
 
@@ -256,7 +264,8 @@ def has_all_due(view, table, key):
 def is_closed_in(view, table):
     if not is_table(view, table) or front_key(view) not in table:
         return False
-    return all([has_all_due(view, table, key) for key in table])
+    known = with_known_ways(table)
+    return all([has_all_due(view, known, key) for key in known])
 
 
 def is_closed(house, table):

@@ -154,15 +154,15 @@ def passes(deed):
     return any(passes(part) for part in inner)
 
 
-def greatest(house):
+def greatest(house, scenes=(OFF, LIT, WARM, BOTH)):
     """A closed table that has all ways at each key by which no pass could be begun without a slip in hand."""
     slips = slips_of(house)
     table = {}
     for place in places_of(house):
         hands = slips + ([] if passes(deed_at(house, place)) else [None])
-        for marks in (OFF, LIT, WARM, BOTH):
+        for scene in scenes:
             for slip in hands:
-                table[(place, marks, slip)] = [(end, then) for end in ["done", "leave", "stop"] + slips for then in (OFF, LIT, WARM, BOTH)]
+                table[(place, scene, slip)] = [(end, then) for end in ["done", "leave", "stop"] + slips for then in scenes]
     return table
 
 
@@ -191,3 +191,14 @@ def very_far_house():
     step = ("when", "lit", ("when", "warm", ("call", "deep"), warmer), ("when", "warm", lit, warmer))
     front = ("row", ("call", "step"), ("slip", "io"))
     return (KINDS, MARKS, (("front", front), ("step", step), ("many", many), ("deep", row_of([SAY] * 2))))
+
+
+def random_watcher(chance):
+    """One that looks on what good_house says."""
+    states = ("up", "down", "left", "right")[:chance.randint(1, 4)]
+    moves = {(state, word): chance.choice(states) for state in states for word in "ab" if chance.random() < 0.7}
+
+    def some():
+        return tuple(state for state in states if chance.random() < 0.6)
+
+    return (states, moves, some(), some())

@@ -174,6 +174,19 @@ class LanguageTest(unittest.TestCase):
                     if isinstance(part, ast.Name) and isinstance(part.ctx, ast.Load):
                         self.assertIn(part.id, bound | top | BUILT_IN, (path.name, part.lineno))
 
+    def test_methods_and_values_are_kept_apart(self):
+        methods, values = set(), set()
+        for path, tree in trees():
+            for node in ast.walk(tree):
+                if isinstance(node, ast.ClassDef):
+                    methods |= {part.name for part in node.body if isinstance(part, ast.FunctionDef)}
+                if isinstance(node, ast.Attribute) and isinstance(node.ctx, ast.Store):
+                    values.add(node.attr)
+        self.assertFalse(methods & values)
+        pythons = {name for kind in (str, int, list, dict, tuple, set, frozenset, bytes) for name in dir(kind)}
+        self.assertLessEqual(methods & pythons, METHODS | DUNDERS | {"add", "discard"})
+        self.assertLessEqual(values & pythons, set("count index title find get join lower upper split strip copy add".split()))
+
     def test_methods(self):
         own = set()
         for path, tree in trees():
